@@ -1,12 +1,6 @@
 package expand
 
-import (
-	"cmp"
-	"slices"
-	"strings"
-
-	"licit/api"
-)
+import "licit/api"
 
 // setWord is the number of bits of a word of a set.
 const setWord = 64
@@ -66,24 +60,4 @@ func tokensOf(pieces []piece) []api.Token {
 		tokens = append(tokens, p.Token)
 	}
 	return tokens
-}
-
-// linesOf returns the set of the lines of some spans, which may be empty, occur twice and overlap.
-func linesOf(spans []api.Span) api.Lines {
-	sorted := slices.SortedFunc(slices.Values(spans), func(a, b api.Span) int {
-		return cmp.Or(strings.Compare(a.Path, b.Path), cmp.Compare(a.From, b.From))
-	})
-	var lines api.Lines
-	for _, s := range sorted {
-		last := len(lines) - 1
-		switch {
-		case s.From == s.To:
-			// no lines
-		case last >= 0 && lines[last].Path == s.Path && s.From <= lines[last].To:
-			lines[last].To = max(lines[last].To, s.To)
-		default:
-			lines = append(lines, s)
-		}
-	}
-	return lines
 }

@@ -1,11 +1,11 @@
 package source
 
 import (
-	"cmp"
 	"slices"
 	"strings"
 
 	"licit/api"
+	"licit/span"
 	"licit/tree"
 )
 
@@ -24,7 +24,7 @@ type reading struct {
 	flags  map[string]bool
 	macros map[string]api.Macro
 	items  []api.Item
-	heads  []api.Line // in the order in which they were read, some of them more than once
+	heads  []api.Span // one for each line, in the order in which they were read, some of them more than once
 	files  []string   // likewise
 }
 
@@ -107,7 +107,7 @@ func (r *reading) line(g group, n int) (api.Head, group, api.Errno) {
 	if h.N > g.to-n-1 {
 		return api.Head{}, group{}, api.ErrShort
 	}
-	r.heads = append(r.heads, api.Line{Path: g.path, N: n})
+	r.heads = append(r.heads, api.Span{Path: g.path, From: n, To: n + 1})
 	body := api.Span{Path: g.path, From: n + 1, To: n + 1 + h.N}
 	var inner group
 	switch h.Word {
@@ -207,7 +207,7 @@ func (r *reading) add(i api.Item) api.Errno {
 
 // unit returns what was read, in the order that its parts have.
 func (r *reading) unit(path string) api.Unit {
-	u := api.Unit{Path: path, Items: r.items, Heads: setOf(r.heads)}
+	u := api.Unit{Path: path, Items: r.items, Heads: span.Set(r.heads)}
 	for name := range r.flags {
 		u.Flags = append(u.Flags, name)
 	}
@@ -219,21 +219,4 @@ func (r *reading) unit(path string) api.Unit {
 	slices.Sort(r.files)
 	u.Files = slices.Compact(r.files)
 	return u
-}
-
-// setOf returns the set of some lines.
-func setOf(lines []api.Line) api.Lines {
-	slices.SortFunc(lines, func(a, b api.Line) int {
-		return cmp.Or(strings.Compare(a.Path, b.Path), cmp.Compare(a.N, b.N))
-	})
-	var set api.Lines
-	for _, l := range lines {
-		// a line that occurs again, or is the next one, belongs to the last span
-		if last := len(set) - 1; last >= 0 && set[last].Path == l.Path && l.N <= set[last].To {
-			set[last].To = l.N + 1
-			continue
-		}
-		set = append(set, api.Span{Path: l.Path, From: l.N, To: l.N + 1})
-	}
-	return set
 }
