@@ -337,7 +337,7 @@ func TestByDefinition(t *testing.T) {
 	}
 }
 
-// P15.3: nothing that exists is changed or removed, each step adds one file, each file that was read existed before, and what is read of other packages was installed by an earlier one.
+// P15.2, P15.3: nothing that exists is changed or removed, each step adds one file, each file that was read existed before, and what is read of other packages was installed by an earlier one. Nothing is visible behind the last step, or a fault.
 func TestConsequences(t *testing.T) {
 	m := someMaker(t, 2)
 	for range 1500 {
@@ -374,6 +374,9 @@ func TestConsequences(t *testing.T) {
 			if last.Kind == api.StepInstall {
 				installed[last.Wrote.Path] = last.Package
 			}
+		}
+		if v := s.Visible(); v != nil {
+			t.Fatal(v, recipes(d))
 		}
 		b, f := Build(d)
 		c, g := Build(copyOf(d))

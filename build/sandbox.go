@@ -24,7 +24,7 @@ type task struct {
 type Sandbox struct {
 	files     map[string]string // their data
 	installed map[string]bool
-	tasks     []task // what is left to be done
+	tasks     []task // what is left to be done: nothing behind a fault
 	record    api.Record
 	fault     api.Fault // of the first task that had one
 }
@@ -62,10 +62,10 @@ func plan(place int, p api.Package) []task {
 
 // Next does the next step; false if there is none, or with a fault, which all further calls return, too: that of the recipe or the step.
 func (s *Sandbox) Next() (did bool, fault api.Fault) {
-	if s.fault.Error != api.OK || len(s.tasks) == 0 {
+	if len(s.tasks) == 0 {
 		return false, s.fault
 	}
-	defer func() { s.fault = fault }()
+	defer func() { s.keep(fault) }()
 	t := s.tasks[0]
 	if t.fault.Error != api.OK {
 		return false, t.fault
@@ -80,6 +80,13 @@ func (s *Sandbox) Next() (did bool, fault api.Fault) {
 	}
 	s.finish(t, j)
 	return true, api.Fault{}
+}
+
+// keep keeps the fault of a task, if it has one: then there is no next step any more, for none of the functions.
+func (s *Sandbox) keep(fault api.Fault) {
+	if fault.Error != api.OK {
+		s.fault, s.tasks = fault, nil
+	}
 }
 
 // prepare gives a job the paths and the files of a task: ErrName, if a reference denotes no path; ErrTwice or ErrTooLarge, if there is no room for what is written; ErrNotFound, if the task may not read one of its files.
@@ -169,7 +176,7 @@ func (s *Sandbox) touch(path string) api.Touch {
 	return api.Touch{Path: path, Digest: digest.Sum(s.files[path])}
 }
 
-// Visible returns the files that the next step may read; none, if there is no next step.
+// Visible returns the files that the next step may read; none, if there is no next step, or the fault of a recipe comes before it.
 func (s *Sandbox) Visible() api.Tree {
 	if len(s.tasks) == 0 || s.tasks[0].fault.Error != api.OK {
 		return nil

@@ -99,25 +99,60 @@ func TestNoSteps(t *testing.T) {
 	}
 }
 
-// P15.2: a fault of a step stays, and changes nothing; the step is still the next one.
+// P15.2: a fault of a step stays, and changes nothing that was built. Ahead of it, what the step may read is visible; behind it, nothing is.
 func TestFaultOfStep(t *testing.T) {
 	s := sandbox(t, one("copy recipe to x\ncompile src to o\ncopy recipe to y", "src", "\n\nmake"))
 	next(t, s)
-	before, visible := s.Result(), s.Visible()
-	if len(visible) != 3 {
-		t.Error(visible)
-	}
+	before, ahead := s.Result(), s.Clone()
+	want := api.Fault{Error: api.ErrSyntax, Step: 1, At: api.Line{Path: "app/src", N: 2}}
 	for range 3 {
-		did, f := s.Next()
-		if want := (api.Fault{Error: api.ErrSyntax, Step: 1, At: api.Line{Path: "app/src", N: 2}}); did || f != want {
+		if did, f := s.Next(); did || f != want {
 			t.Error(did, f)
 		}
-		if !sameBuilt(s.Result(), before) || !slices.Equal(s.Visible(), visible) {
+		if !sameBuilt(s.Result(), before) || s.Visible() != nil {
 			t.Error(s.Result(), s.Visible())
 		}
 	}
-	if c := s.Clone(); !sameBuilt(c.Result(), before) || !slices.Equal(c.Visible(), visible) || rest(c).Error != api.ErrSyntax {
-		t.Error(c.Result())
+	if c := s.Clone(); !sameBuilt(c.Result(), before) || c.Visible() != nil || rest(c) != want {
+		t.Error(c.Result(), c.Visible())
+	}
+	if l := pathsOf(ahead.Visible()); !slices.Equal(l, []string{"app/recipe", "app/src", "app/x"}) {
+		t.Error(l)
+	}
+	if f := rest(ahead); f != want || ahead.Visible() != nil {
+		t.Error(f, ahead.Visible())
+	}
+}
+
+// P15.2: nothing is visible behind a fault of any kind of step, whatever is in front of it and would come behind it.
+func TestNothingVisibleBehindFaults(t *testing.T) {
+	for _, step := range []string{
+		"copy a/b/c/d/e/f/g/h to x", "copy f to f", "copy f to f/x", "copy none to x", "install none as x", "compile none to x",
+		"compile f to x", "compile f to x with big", "archive f to x", "share f to x", "link main f to x", "run f on f to x", "patch f with f to x",
+	} {
+		for i, x := range []struct {
+			d             api.Distribution
+			before, ahead int // the steps that can be done, and the files that the one with the fault may read
+		}{
+			{one(step, "f", "x"), 0, 2},
+			{one("\ncopy f to g\n"+step+"\ninstall f as y\ncopy f to z", "f", "x"), 1, 3},
+			{append(one("install f as g\n"+step, "f", "x"), pack("end", "copy f to g", "f", "1")), 1, 3},
+			{append(one(step, "f", "x"), pack("end", "make")), 0, 2},
+			{api.Distribution{pack("lib", "install f as y\ncopy y to z", "f", "1"), pack("none", ""), pack("app", step, "f", "x")}, 2, 3},
+		} {
+			s := sandbox(t, x.d)
+			for range x.before {
+				next(t, s)
+			}
+			if len(s.Visible()) != x.ahead {
+				t.Error(step, i, s.Visible())
+			}
+			for range 2 {
+				if did, f := s.Next(); did || f.Error == api.OK || s.Visible() != nil || s.Clone().Visible() != nil {
+					t.Error(step, i, f, s.Visible())
+				}
+			}
+		}
 	}
 }
 
