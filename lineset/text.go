@@ -5,6 +5,7 @@ import (
 	"strings"
 
 	"licit/api"
+	"licit/decimal"
 	"licit/tree"
 )
 
@@ -49,8 +50,8 @@ func parse(line string) (api.Span, api.Errno) {
 	path, numbers, _ := strings.Cut(line, " ")
 	// what would be a fourth part makes the third one no number
 	left, right, _ := strings.Cut(numbers, " ")
-	from, isFrom := number(left)
-	to, isTo := number(right)
+	from, isFrom := decimal.Parse(left, maxDigits)
+	to, isTo := decimal.Parse(right, maxDigits)
 	switch {
 	case !isFrom || !isTo:
 		return api.Span{}, api.ErrSyntax
@@ -60,17 +61,4 @@ func parse(line string) (api.Span, api.Errno) {
 		return api.Span{}, api.ErrRange
 	}
 	return api.Span{Path: path, From: from, To: to}, api.OK
-}
-
-// number returns the number with a text, and whether it is the text of one.
-func number(text string) (int, bool) {
-	if len(text) > maxDigits {
-		return 0, false
-	}
-	n, err := strconv.Atoi(text)
-	// Atoi reads signs and leading zeros, too
-	if err != nil || n < 0 || strconv.Itoa(n) != text {
-		return 0, false
-	}
-	return n, true
 }
