@@ -6,6 +6,7 @@ import (
 	"licit/compile"
 	"licit/emulate"
 	"licit/link"
+	"licit/linkage"
 	"licit/object"
 	"licit/patch"
 )
@@ -64,7 +65,7 @@ func (j *job) compile() (string, api.Errno) {
 
 // archive returns the bytes of an archive of objects.
 func (j *job) archive() (string, api.Errno) {
-	l, e := members(j.in)
+	l, e := linkage.Objects(j.in)
 	if e != api.OK {
 		return "", e
 	}
@@ -73,7 +74,7 @@ func (j *job) archive() (string, api.Errno) {
 
 // share returns the bytes of a shared library of objects.
 func (j *job) share() (string, api.Errno) {
-	l, e := members(j.in)
+	l, e := linkage.Objects(j.in)
 	if e != api.OK {
 		return "", e
 	}
@@ -84,37 +85,15 @@ func (j *job) share() (string, api.Errno) {
 	return binary.Encode(b)
 }
 
-// members returns objects named by their paths: ErrCorrupt, if a file is not the bytes of one.
-func members(files []api.File) ([]api.Member, api.Errno) {
-	var l []api.Member
-	for _, f := range files {
-		o, e := object.Decode(f.Data)
-		if e != api.OK {
-			return nil, e
-		}
-		l = append(l, api.Member{Name: f.Path, Object: o})
-	}
-	return l, api.OK
-}
-
 // link returns the bytes of a program.
 func (j *job) link() (string, api.Errno) {
-	l, e := members(j.in)
+	l, e := linkage.Objects(j.in)
 	if e != api.OK {
 		return "", e
 	}
-	var shelves []api.Shelf
-	var libs []api.Library
-	for _, f := range j.using {
-		if m, e := object.Unpack(f.Data); e == api.OK {
-			shelves = append(shelves, api.Shelf{Path: f.Path, Members: m})
-			continue
-		}
-		b, e := binary.Decode(f.Data)
-		if e != api.OK || b.Kind != api.Shared {
-			return "", api.ErrCorrupt
-		}
-		libs = append(libs, api.Library{Path: f.Path, Binary: b})
+	shelves, libs, e := linkage.Using(j.using)
+	if e != api.OK {
+		return "", e
 	}
 	b, _, e := link.Link(j.words[0], l, shelves, libs)
 	if e != api.OK {
