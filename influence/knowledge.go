@@ -121,17 +121,14 @@ func (k *knowledge) influences() []api.Influence {
 
 // influence returns that of an installed file.
 func (k *knowledge) influence(output string) api.Influence {
-	i := api.Influence{
+	// what is installed was written by a step
+	step, _ := k.trace.Writer(output)
+	return api.Influence{
 		Output:   output,
 		Whole:    k.origin(k.trace.Segments(output)...),
+		Recipes:  k.trace.Recipes(step),
 		Sections: k.sections(output),
 	}
-	for step := range k.trace.Steps() {
-		if k.trace.Out(step) == output {
-			i.Recipes = k.trace.Recipes(step)
-		}
-	}
-	return i
 }
 
 // sections returns the influences of the sections of an output, if it is a library or a binary.

@@ -55,23 +55,11 @@ func showInfluence(i api.Influence) []string {
 	return l
 }
 
-// showMarks writes marked segments: the path, the member behind !, and :n for a line, #n for a section, [] for an export list, then the origin.
+// showMarks writes marked segments, each with its origin.
 func showMarks(l []api.Marked) []string {
 	var words []string
 	for _, m := range l {
-		text := m.Segment.Path
-		if m.Segment.Member != "" {
-			text += "!" + m.Segment.Member
-		}
-		switch m.Segment.Kind {
-		case api.SegmentLine:
-			text += fmt.Sprintf(":%d", m.Segment.Index)
-		case api.SegmentSection:
-			text += fmt.Sprintf("#%d", m.Segment.Index)
-		case api.SegmentList:
-			text += "[]"
-		}
-		words = append(words, text+" < "+show(m.Origin))
+		words = append(words, sample.Show(m.Segment)+" < "+show(m.Origin))
 	}
 	return words
 }
@@ -110,22 +98,7 @@ func expectMarks(t *testing.T, d api.Distribution, path string, want ...string) 
 }
 
 // example is the distribution of the chapter.
-func example() api.Distribution {
-	return api.Distribution{pack("app", []string{"patch x with p to y", "install y as z"}, "x", "a\nb", "p", "keep 1\ndrop 1\nadd 1\nc")}
-}
+func example() api.Distribution { return sample.Example() }
 
-// factory is a distribution in which each kind of artifact is made. The generator of lib prints a source file; app is linked with a library of lib.
-func factory() api.Distribution {
-	lib := pack("lib", []string{"compile gen.src to gen.o", "link main gen.o to gen", "install gen as out/gen", "compile g.src to g.o", "share g.o to g.so", "install g.so as out/g.so"},
-		"gen.src", lines("note 1", "prints", "export fn main 4", "let c = in ( )", "while c != 4294967295 2", "out c", "set c = in ( )"),
-		"g.src", lines("export fn g 1", "return 65", "export data h 1", "7"))
-	app := pack("app", []string{
-		"run @lib/out/gen on f.txt to f.src", "compile f.src to f.o", "compile m.src to m.o", "archive f.o m.o to l.a",
-		"link main m.o using l.a @lib/out/g.so to bin", "run bin using @lib/out/g.so on in to text",
-		"install bin as out/bin", "install l.a as out/l.a", "install m.o as out/m.o", "install text as out/text", "install f.src as out/f.src", "install in as out/in",
-	},
-		"f.txt", lines("extern g", "export fn f 1", "return g ( )", "export fn unused 1", "return 3"),
-		"m.src", lines("extern f", "export fn main 2", "out f ( )", "do 0"),
-		"in", "")
-	return api.Distribution{lib, app}
-}
+// factory is a distribution in which each kind of artifact is made.
+func factory() api.Distribution { return sample.Factory() }

@@ -6,6 +6,7 @@ import (
 	"testing"
 
 	"licit/api"
+	"licit/sample"
 )
 
 // P19.3: lines that a patch keeps, drops and adds, and its other lines; with a base, and with a last line feed.
@@ -212,7 +213,7 @@ func TestRuns(t *testing.T) {
 	each(10, []string{"a/t3", "a/t3:0"}, "a/g.so, a/g.so by, a/g.so#0, a/g.so#0 by, a/g.so[], a/g.so[] by, "+program)
 	var all []string
 	for _, s := range x.Segments("a/t4") {
-		all = append(all, show(s))
+		all = append(all, sample.Show(s))
 	}
 	each(11, all, "a/echo, a/echo by, a/echo#0, a/echo#0 by")
 	// the bytes of an object and an archive that were made by a run are texts

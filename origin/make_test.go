@@ -1,7 +1,6 @@
 package origin
 
 import (
-	"fmt"
 	"slices"
 	"strings"
 	"testing"
@@ -28,32 +27,11 @@ func traced(t *testing.T, d ...api.Package) *Tracer {
 	return x
 }
 
-// show writes a segment: its path, the member behind !, and :n for a line, #n for a section, [] for an export list, and nothing for the file.
-func show(s api.Segment) string {
-	text := s.Path
-	if s.Member != "" {
-		text += "!" + s.Member
-	}
-	switch s.Kind {
-	case api.SegmentLine:
-		return fmt.Sprintf("%s:%d", text, s.Index)
-	case api.SegmentSection:
-		return fmt.Sprintf("%s#%d", text, s.Index)
-	}
-	if s.Kind == api.SegmentList {
-		text += "[]"
-	}
-	if s.Index != 0 {
-		text += "?"
-	}
-	return text
-}
-
 // showAll writes segments.
 func showAll(l []api.Segment) string {
 	var words []string
 	for _, s := range l {
-		words = append(words, show(s))
+		words = append(words, sample.Show(s))
 	}
 	return strings.Join(words, " ")
 }
@@ -65,11 +43,11 @@ var routeNames = map[int]string{api.RouteIn: "", api.RouteBy: " by", api.RouteLi
 func showFlows(flows []api.Flow) []string {
 	var l []string
 	for i, x := range flows {
-		from := show(x.From) + routeNames[x.Route]
+		from := sample.Show(x.From) + routeNames[x.Route]
 		if i > 0 && flows[i-1].To == x.To {
 			l[len(l)-1] += ", " + from
 		} else {
-			l = append(l, show(x.To)+" < "+from)
+			l = append(l, sample.Show(x.To)+" < "+from)
 		}
 	}
 	return l

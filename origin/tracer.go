@@ -4,7 +4,6 @@ import (
 	"cmp"
 	"maps"
 	"slices"
-	"strings"
 
 	"licit/api"
 	"licit/trace"
@@ -67,12 +66,6 @@ func flowsTo(to api.Segment, streams []trace.Stream) []api.Flow {
 		}
 	}
 	return slices.SortedFunc(maps.Keys(flows), func(a, b api.Flow) int {
-		return cmp.Or(
-			strings.Compare(a.From.Path, b.From.Path),
-			strings.Compare(a.From.Member, b.From.Member),
-			cmp.Compare(a.From.Kind, b.From.Kind),
-			cmp.Compare(a.From.Index, b.From.Index),
-			cmp.Compare(a.Route, b.Route),
-		)
+		return cmp.Or(trace.Compare(a.From, b.From), cmp.Compare(a.Route, b.Route))
 	})
 }

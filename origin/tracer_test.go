@@ -9,12 +9,11 @@ import (
 
 	"licit/api"
 	"licit/build"
+	"licit/sample"
 )
 
 // example is that of the chapter.
-func example() api.Package {
-	return pack("app", "patch x with p to y\ninstall y as z", "x", "a\nb", "p", "keep 1\ndrop 1\nadd 1\nc")
-}
+func example() api.Package { return sample.Example()[0] }
 
 // P19.2, P19.3: the example of the chapter.
 func TestExample(t *testing.T) {

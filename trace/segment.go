@@ -1,6 +1,9 @@
 package trace
 
 import (
+	"cmp"
+	"strings"
+
 	"licit/api"
 	"licit/binary"
 	"licit/object"
@@ -23,6 +26,16 @@ func section(path, member string, n int) api.Segment {
 
 // list returns the segment of the export list of a library.
 func list(path string) api.Segment { return api.Segment{Path: path, Kind: api.SegmentList} }
+
+// Compare compares segments by path, member, kind and index.
+func Compare(a, b api.Segment) int {
+	return cmp.Or(
+		strings.Compare(a.Path, b.Path),
+		strings.Compare(a.Member, b.Member),
+		cmp.Compare(a.Kind, b.Kind),
+		cmp.Compare(a.Index, b.Index),
+	)
+}
 
 // Segments returns the segments of the artifact at a path, in order; nothing, if there is no file.
 func (t *Trace) Segments(path string) []api.Segment {

@@ -137,6 +137,12 @@ func (t *Trace) Steps() int { return len(t.steps) }
 // Out returns the path that a step has written; nothing, if there is no such step.
 func (t *Trace) Out(i int) string { return t.step(i).out }
 
+// Writer returns the step that has written a path, and whether there is one.
+func (t *Trace) Writer(path string) (int, bool) {
+	i := slices.IndexFunc(t.steps, func(s step) bool { return s.out == path })
+	return max(i, 0), i >= 0
+}
+
 // Recipes returns the lines of the recipes of a step: that of its package, and those of all packages before it; nothing, if there is no such step.
 func (t *Trace) Recipes(i int) api.Lines { return slices.Clone(t.step(i).recipes) }
 

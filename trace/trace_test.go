@@ -74,6 +74,40 @@ func TestLongRun(t *testing.T) {
 	}
 }
 
+// The writer of a path is the step that has written it; a path that no step has written has none.
+func TestWriter(t *testing.T) {
+	x, f := New(sample.Factory())
+	if f.Error != api.OK {
+		t.Fatal(f)
+	}
+	for i := range x.Steps() {
+		if step, written := x.Writer(x.Out(i)); step != i || !written {
+			t.Error(i, step, written)
+		}
+	}
+	for _, path := range []string{"", "app/in", "app/none", "lib/recipe", "app"} {
+		if step, written := x.Writer(path); step != 0 || written {
+			t.Error(path, step)
+		}
+	}
+}
+
+// Segments are compared by path, member, kind and index, one after the other.
+func TestCompare(t *testing.T) {
+	order := []api.Segment{
+		{}, {Index: 9}, {Kind: api.SegmentLine, Index: 2}, {Kind: api.SegmentLine, Index: 10}, {Kind: api.SegmentSection}, {Kind: api.SegmentList},
+		{Member: "a", Kind: api.SegmentSection, Index: 3}, {Member: "a-"}, {Member: "a/b", Kind: api.SegmentFile},
+		{Path: "a", Kind: api.SegmentList, Index: 7}, {Path: "a", Member: "b"}, {Path: "a-b"}, {Path: "a/b"}, {Path: "b"},
+	}
+	for i, a := range order {
+		for j, b := range order {
+			if c := Compare(a, b); c < 0 != (i < j) || c > 0 != (i > j) {
+				t.Error(a, b, c)
+			}
+		}
+	}
+}
+
 // The zero value has neither files nor steps; indices and paths may be anything.
 func TestNothing(t *testing.T) {
 	for _, path := range []string{"", "a", "a/in"} {
