@@ -7,6 +7,7 @@ import (
 	"testing"
 
 	"licit/api"
+	"licit/sample"
 )
 
 // P23.2: texts that are valid, and those that break a condition.
@@ -16,7 +17,7 @@ func TestValid(t *testing.T) {
 			t.Error(i, x.Path)
 		}
 	}
-	for i, x := range invalidTexts() {
+	for i, x := range sample.BadTexts() {
 		if Valid(x) {
 			t.Error(i, x.Path, x.Words[:min(len(x.Words), 3)])
 		}
@@ -41,22 +42,22 @@ func TestPrint(t *testing.T) {
 		text api.Text
 		want string
 	}{
-		{text("a"), ""},
-		{text("a", "0 x"), "0: x\n"},
-		{text("a", "0 let x1 = 10 ;"), "0: let x1 = 10 ;\n"},
-		{text("b/c", "0 let x1 = 10 ;", "2 let y", "3 z"), "0: let x1 = 10 ;\n2: let y\n3: z\n"},
-		{text("a", "9 x", "10 y z", "99 x", "100 y", "1023 z z"), "9: x\n10: y z\n99: x\n100: y\n1023: z z\n"},
+		{sample.Text("a"), ""},
+		{sample.Text("a", "0 x"), "0: x\n"},
+		{sample.Text("a", "0 let x1 = 10 ;"), "0: let x1 = 10 ;\n"},
+		{sample.Text("b/c", "0 let x1 = 10 ;", "2 let y", "3 z"), "0: let x1 = 10 ;\n2: let y\n3: z\n"},
+		{sample.Text("a", "9 x", "10 y z", "99 x", "100 y", "1023 z z"), "9: x\n10: y z\n99: x\n100: y\n1023: z z\n"},
 		// words of one line, however they are written here
-		{text("a", "7 x", "7 y", "8 y", "8 x"), "7: x y\n8: y x\n"},
-		{text("a", "0 $n $n = $0 ;"), "0: $n $n = $0 ;\n"},
-		{text("a", "0 0: : 1:", "1 :"), "0: 0: : 1:\n1: :\n"},
-		{text("a", "5 \xff \x80 é"), "5: \xff \x80 é\n"},
+		{sample.Text("a", "7 x", "7 y", "8 y", "8 x"), "7: x y\n8: y x\n"},
+		{sample.Text("a", "0 $n $n = $0 ;"), "0: $n $n = $0 ;\n"},
+		{sample.Text("a", "0 0: : 1:", "1 :"), "0: 0: : 1:\n1: :\n"},
+		{sample.Text("a", "5 \xff \x80 é"), "5: \xff \x80 é\n"},
 	} {
 		if s, e := Print(x.text); e != api.OK || s != x.want {
 			t.Errorf("%d %q %v", i, s, e)
 		}
 	}
-	s, e := Print(many(api.MaxWords))
+	s, e := Print(sample.Many(api.MaxWords))
 	if lines := strings.Split(s, "\n"); e != api.OK || len(lines) != (api.MaxWords+9)/10+1 || lines[819] != "819: w0 w1" || lines[820] != "" {
 		t.Error(len(lines), e)
 	}
@@ -65,7 +66,7 @@ func TestPrint(t *testing.T) {
 // P23.2: the lines of runs of words.
 func TestLines(t *testing.T) {
 	// the words 0 to 4 stand in the line 0, 5 and 6 in 2, 7 in 3, and 8 in 1023
-	x := text("a/x", "0 let x1 = 10 ;", "2 let y", "3 z", "1023 end")
+	x := sample.Text("a/x", "0 let x1 = 10 ;", "2 let y", "3 z", "1023 end")
 	for _, y := range []struct {
 		from, to int
 		want     api.Lines
@@ -90,22 +91,22 @@ func TestLines(t *testing.T) {
 			t.Error(y, l, e)
 		}
 	}
-	if l, e := Lines(text("a"), 0, 0); e != api.OK || l != nil {
+	if l, e := Lines(sample.Text("a"), 0, 0); e != api.OK || l != nil {
 		t.Error(l, e)
 	}
 	for _, y := range [][2]int{{0, 1}, {1, 1}, {-1, 0}} {
-		if l, e := Lines(text("a"), y[0], y[1]); e != api.ErrRange || l != nil {
+		if l, e := Lines(sample.Text("a"), y[0], y[1]); e != api.ErrRange || l != nil {
 			t.Error(y, l, e)
 		}
 	}
-	if l, e := Lines(many(api.MaxWords), 0, api.MaxWords); e != api.OK || !slices.Equal(l, api.Lines{{Path: "many", From: 0, To: 820}}) {
+	if l, e := Lines(sample.Many(api.MaxWords), 0, api.MaxWords); e != api.OK || !slices.Equal(l, api.Lines{{Path: "many", From: 0, To: 820}}) {
 		t.Error(l, e)
 	}
 }
 
 // P23.2: a text that is not valid has neither a printed form nor lines, whatever the range is.
 func TestInvalid(t *testing.T) {
-	for i, x := range invalidTexts() {
+	for i, x := range sample.BadTexts() {
 		if s, e := Print(x); e != api.ErrArg || s != "" {
 			t.Errorf("%d %q %v", i, s, e)
 		}
@@ -119,9 +120,9 @@ func TestInvalid(t *testing.T) {
 
 // P23.3: positions at the ends of texts and between them.
 func TestCommon(t *testing.T) {
-	a := text("a", "0 x y z", "1 x y u")
+	a := sample.Text("a", "0 x y z", "1 x y u")
 	// the same words in other lines, and then others
-	b := text("b", "0 y", "1 z x", "5 y u", "7 v")
+	b := sample.Text("b", "0 y", "1 z x", "5 y u", "7 v")
 	for _, x := range []struct{ i, j, want int }{
 		{0, 0, 0}, {1, 0, 5}, {2, 1, 4}, {3, 2, 3}, {5, 4, 1}, {4, 0, 1}, {1, 3, 1}, {0, 2, 2}, {0, 5, 0}, {5, 5, 0}, {4, 3, 2},
 		// behind the last word
@@ -144,25 +145,25 @@ func TestCommon(t *testing.T) {
 	if n := Common(a, 0, a, 3); n != 2 {
 		t.Error(n)
 	}
-	if n := Common(text("a"), 0, text("a"), 0); n != 0 {
+	if n := Common(sample.Text("a"), 0, sample.Text("a"), 0); n != 0 {
 		t.Error(n)
 	}
-	if n := Common(many(api.MaxWords), 0, many(api.MaxWords), 10); n != api.MaxWords-10 {
+	if n := Common(sample.Many(api.MaxWords), 0, sample.Many(api.MaxWords), 10); n != api.MaxWords-10 {
 		t.Error(n)
 	}
 	// words are compared as they are
-	if n := Common(text("a", "0 x"), 0, text("a", "0 X"), 0); n != 0 {
+	if n := Common(sample.Text("a", "0 x"), 0, sample.Text("a", "0 X"), 0); n != 0 {
 		t.Error(n)
 	}
-	if n := Common(text("a", "0 x y"), 0, text("a", "0 xy"), 0); n != 0 {
+	if n := Common(sample.Text("a", "0 x y"), 0, sample.Text("a", "0 xy"), 0); n != 0 {
 		t.Error(n)
 	}
 }
 
 // P23.3: a text that is not valid has nothing in common with another one, nor with itself.
 func TestCommonInvalid(t *testing.T) {
-	good := text("a", "5 x")
-	for i, x := range invalidTexts() {
+	good := sample.Text("a", "5 x")
+	for i, x := range sample.BadTexts() {
 		for _, y := range []api.Text{good, x} {
 			if n := Common(x, 0, y, 0); n != 0 {
 				t.Error(i, n)
@@ -176,7 +177,7 @@ func TestCommonInvalid(t *testing.T) {
 
 // P23.2, P23.3: arguments are not changed, and results share no memory with them.
 func TestMemory(t *testing.T) {
-	x, y := text("a", "0 x y", "1 z", "1 x"), text("a", "0 x y", "1 z", "1 x")
+	x, y := sample.Text("a", "0 x y", "1 z", "1 x"), sample.Text("a", "0 x y", "1 z", "1 x")
 	before := slices.Clone(x.Words)
 	l, _ := Lines(x, 0, 4)
 	m, _ := Lines(x, 0, 4)

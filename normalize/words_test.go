@@ -6,6 +6,7 @@ import (
 	"testing"
 
 	"licit/api"
+	"licit/sample"
 )
 
 // P23.1: the words of texts, for each choice of classes.
@@ -30,7 +31,7 @@ func TestWordsOfTexts(t *testing.T) {
 		{strings.Repeat("\n", api.MaxLines-1) + "x", []string{"1023 x"}},
 	} {
 		got, e := Words("a/x", x.data, false, false)
-		if want := text("a/x", x.lines...); e != api.OK || !equal(got, want) {
+		if want := sample.Text("a/x", x.lines...); e != api.OK || !equal(got, want) {
 			t.Error(i, got, e)
 		}
 	}
@@ -62,7 +63,7 @@ func TestNotes(t *testing.T) {
 		// another word
 		{"Note 1\nx", []string{"0 Note 1", "1 x"}}, {"NOTE 1\nx", []string{"0 NOTE 1", "1 x"}}, {"notes 1\nx", []string{"0 notes 1", "1 x"}}, {"not 1\nx", []string{"0 not 1", "1 x"}}, {"note_ 1\nx", []string{"0 note_ 1", "1 x"}}, {"1 note\nx", []string{"0 1 note", "1 x"}}, {"1 1\nx", []string{"0 1 1", "1 x"}}, {"note note\nx", []string{"0 note note", "1 x"}},
 	} {
-		want := text("a", x.lines...)
+		want := sample.Text("a", x.lines...)
 		for _, names := range []bool{false, true} {
 			for _, numbers := range []bool{false, true} {
 				got, e := Words("a", x.data, names, numbers)
@@ -87,7 +88,7 @@ func TestClasses(t *testing.T) {
 		{false, true, []string{"0 let x1 = $0 ;", "3 _ _1 $0 $0 $0 Z $ n $ $0 \xc3 \xa9 note $0 $0"}},
 		{true, true, []string{"0 $n $n = $0 ;", "3 $n $n $0 $0 $0 $n $ $n $ $0 \xc3 \xa9 $n $0 $0"}},
 	} {
-		if got, e := Words("b", data, x.names, x.numbers); e != api.OK || !equal(got, text("b", x.lines...)) {
+		if got, e := Words("b", data, x.names, x.numbers); e != api.OK || !equal(got, sample.Text("b", x.lines...)) {
 			t.Error(x.names, x.numbers, got, e)
 		}
 	}
@@ -113,7 +114,7 @@ func TestBytes(t *testing.T) {
 		}
 		for i, classes := range []bool{false, true} {
 			for data, words := range map[string]string{b: alone[i], "a" + b + "b": between[i], "7" + b: behind[i]} {
-				if got, e := Words("a", data, classes, classes); e != api.OK || !equal(got, text("a", "0"+words)) {
+				if got, e := Words("a", data, classes, classes); e != api.OK || !equal(got, sample.Text("a", "0"+words)) {
 					t.Errorf("%q %v %v", data, got, e)
 				}
 			}
@@ -123,8 +124,8 @@ func TestBytes(t *testing.T) {
 
 // P23.1: the path is kept, and is none of what is looked at.
 func TestPaths(t *testing.T) {
-	for _, path := range []string{"a", "a/b", "note", "0", longPath(), "a/b/c/d/e/f/g/h"} {
-		if got, e := Words(path, "x", false, false); e != api.OK || !equal(got, text(path, "0 x")) {
+	for _, path := range []string{"a", "a/b", "note", "0", sample.LongPath(), "a/b/c/d/e/f/g/h"} {
+		if got, e := Words(path, "x", false, false); e != api.OK || !equal(got, sample.Text(path, "0 x")) {
 			t.Error(path, got, e)
 		}
 	}
@@ -161,7 +162,7 @@ func TestWordsLimits(t *testing.T) {
 		// the path comes first
 		{"A", strings.Repeat(" ", api.MaxData+1), 0, api.ErrName},
 		{"", strings.Repeat("(", api.MaxWords+1), 0, api.ErrName},
-		{longPath() + "q", strings.Repeat("\n", api.MaxLines), 0, api.ErrName},
+		{sample.LongPath() + "q", strings.Repeat("\n", api.MaxLines), 0, api.ErrName},
 	} {
 		for _, classes := range []bool{false, true} {
 			got, e := Words(x.path, x.data, classes, classes)
@@ -174,7 +175,7 @@ func TestWordsLimits(t *testing.T) {
 
 // P23.1: a path that is none.
 func TestWordsErrors(t *testing.T) {
-	for _, path := range badPaths() {
+	for _, path := range sample.BadPaths() {
 		if got, e := Words(path, "x", false, false); e != api.ErrName || !isZero(got) {
 			t.Error(path, got, e)
 		}
@@ -186,7 +187,7 @@ func TestWordsMemory(t *testing.T) {
 	a, _ := Words("a", "x y\nz", false, false)
 	b, _ := Words("a", "x y\nz", false, false)
 	clear(a.Words)
-	if want := text("a", "0 x y", "1 z"); !slices.Equal(b.Words, want.Words) {
+	if want := sample.Text("a", "0 x y", "1 z"); !slices.Equal(b.Words, want.Words) {
 		t.Error(b)
 	}
 }

@@ -1,4 +1,4 @@
-// Package sample belongs to no layer: it makes distributions that can be built, for the tests of the layers that look at builds.
+// Package sample belongs to no layer: it makes distributions that can be built, and texts of words, for the tests of the layers that look at them.
 package sample
 
 import (
